@@ -1,4 +1,4 @@
-package chain_test
+package hulls_test
 
 import (
 	"errors"
@@ -11,40 +11,56 @@ import (
 	"outrigger/api"
 	"outrigger/chain"
 	"outrigger/filter"
+	"outrigger/graham"
 	"outrigger/shape"
 )
 
-// wantHull holds Hull against what is wanted, bit by bit.
+// way: one of the ways to find a hull, and the layer whose promises it keeps.
+type way struct {
+	layer string
+	hull  func(l []api.Point) ([]api.Point, error)
+}
+
+// ways: all of them, that by two chains first.
+func ways() []way {
+	return []way{{"P11", chain.Hull}, {"P12", graham.Hull}}
+}
+
+// wantHull holds what each way answers against what is wanted, bit by bit.
 func wantHull(t *testing.T, l, want []api.Point) {
 	t.Helper()
-	if h, e := chain.Hull(l); e != nil || !slices.Equal(h, want) {
-		t.Errorf("P11.1: Hull of %s: %s %v, not %s", seen(l...), seen(h...), e, seen(want...))
+	for _, w := range ways() {
+		if h, e := w.hull(l); e != nil || !slices.Equal(h, want) {
+			t.Errorf("%s.1: Hull of %s: %s %v, not %s", w.layer, seen(l...), seen(h...), e, seen(want...))
+		}
 	}
 }
 
-// checkFollows: is what Hull answers a right round of points of the list, by
-// Norm, that holds them all?
-func checkFollows(t *testing.T, l []api.Point) []api.Point {
+// checkFollows: is what each way answers a right round of points of the list,
+// by Norm, that holds them all, and do all ways tell the same, bit by bit?
+func checkFollows(t *testing.T, l []api.Point) {
 	t.Helper()
-	h, e := chain.Hull(l)
-	if e != nil || !shape.Right(h) {
-		t.Errorf("P11.2: Hull of %s: %s %v: not right", seen(l...), seen(h...), e)
-	}
-	there := map[api.Point]bool{}
-	for _, p := range l {
-		there[normOf(p)] = true
-	}
-	for _, p := range h {
-		if !there[p] {
-			t.Errorf("P11.2: Hull of %s has %s", seen(l...), seen(p))
+	first, _ := chain.Hull(l)
+	once := onceOf(l)
+	for _, w := range ways() {
+		h, e := w.hull(l)
+		if e != nil || !shape.Right(h) {
+			t.Errorf("%s.2: Hull of %s: %s %v: not right", w.layer, seen(l...), seen(h...), e)
+		}
+		for _, p := range h {
+			if _, found := slices.BinarySearchFunc(once, p, lexOf); !found || p != normOf(p) {
+				t.Errorf("%s.2: Hull of %s has %s", w.layer, seen(l...), seen(p))
+			}
+		}
+		for _, p := range once {
+			if holds, e := shape.Holds(h, p); e != nil || !holds {
+				t.Errorf("%s.2: Hull of %s, %s, doesn't hold %s: %v", w.layer, seen(l...), seen(h...), seen(p), e)
+			}
+		}
+		if !slices.Equal(h, first) {
+			t.Errorf("%s.3: Hull of %s: %s, by two chains %s", w.layer, seen(l...), seen(h...), seen(first...))
 		}
 	}
-	for p := range there {
-		if holds, e := shape.Holds(h, p); e != nil || !holds {
-			t.Errorf("P11.2: Hull of %s, %s, doesn't hold %s: %v", seen(l...), seen(h...), seen(p), e)
-		}
-	}
-	return h
 }
 
 // dice: the same numbers in each run.
@@ -175,6 +191,7 @@ func chance(n, kind int, by *rand.Rand) (l []api.Point) {
 // What tests go by is itself right: the words and the sides tell the same, and
 // wheels and bowls are what they should be.
 func TestWords(t *testing.T) {
+	t.Parallel()
 	by := dice(1)
 	for n := range 300 {
 		l := chance(n%30, n, by)
@@ -200,6 +217,7 @@ func TestWords(t *testing.T) {
 
 // What the document gives, and each edge that it names, written out.
 func TestHull(t *testing.T) {
+	t.Parallel()
 	square := points(0, 0, 2, 0, 2, 2, 0, 2)
 	by := dice(2)
 	for _, c := range []struct{ l, want []api.Point }{
@@ -237,6 +255,7 @@ func TestHull(t *testing.T) {
 // Each set of points of a grid of three by three, in many orders: all ways that
 // few points can lie to one another.
 func TestGrid(t *testing.T) {
+	t.Parallel()
 	by := dice(3)
 	for mask := range 1 << 9 {
 		var l []api.Point
@@ -271,6 +290,7 @@ func orders(l []api.Point, from int, do func(l []api.Point)) {
 
 // A few points in each of their orders: one hull.
 func TestEachOrder(t *testing.T) {
+	t.Parallel()
 	for _, l := range [][]api.Point{
 		points(0, 0, 1, 0, 2, 0, 3, 0, 4, 0), points(0, 0, 0, 1, 0, 2, 0, 3, 0, noughtBelow), points(-3, -1, 0, 0, 3, 1, 6, 2, 3, over(1), 0, -least), points(0, 0, 2, 0, 2, 2, 0, 2, 1, 1, 1, 0), points(0, 0, 4, 0, 0, 4, 2, 2, 1, 1, 4, 0), points(0, 0, 1, 0, 2, 0, 0, 1, 1, 1, 0, 2), bowl(6), points(greatest, 0, -greatest, 0, 0, least, 0, -least, 0, 0, noughtBelow, noughtBelow), points(1, 1, 1, 1, noughtBelow, 1, 0, 1, 2, 1, 2, 1), points(0, 0, 1, 1, 0.5, 0.5+0x1p-53, 0.5, 0.5, 0.5, 0.5-0x1p-54),
 	} {
@@ -281,6 +301,7 @@ func TestEachOrder(t *testing.T) {
 
 // Lists of none to some dozens of points by chance, of all kinds.
 func TestChance(t *testing.T) {
+	t.Parallel()
 	by := dice(4)
 	corners, others := 0, 0
 	for n := range 600 {
@@ -291,13 +312,14 @@ func TestChance(t *testing.T) {
 		checkFollows(t, l)
 	}
 	if corners < 3000 || others < 3000 {
-		t.Errorf("P11.1: %d corners, %d others", corners, others)
+		t.Errorf("%d corners, %d others", corners, others)
 	}
 }
 
 // Lists of some hundreds, of all kinds: by segments and triangles up to there,
 // and by sides farther on.
 func TestHundreds(t *testing.T) {
+	t.Parallel()
 	by := dice(5)
 	for kind := range 10 {
 		l := chance(90+3*kind, kind, by)
@@ -312,6 +334,7 @@ func TestHundreds(t *testing.T) {
 // Rounds that are all corners, and such with a lesser one: half a wheel lies
 // within the wheel, half a bowl doesn't lie within the bowl.
 func TestAllCorners(t *testing.T) {
+	t.Parallel()
 	by := dice(13)
 	for _, n := range []int{3, 4, 30, 100} {
 		for _, size := range []float64{0x1p-540, 1, 0x1p1000} {
@@ -329,6 +352,7 @@ func TestAllCorners(t *testing.T) {
 // In one line: level, upright, aslant; all of it is a hull of two. With one
 // point of it one float beside, or two, one to each side, there are more.
 func TestInLine(t *testing.T) {
+	t.Parallel()
 	by := dice(6)
 	for _, way := range points(1, 0, 0, 1, 1, 1, 1, -1, 3, 1, -2, 5, 1, 0.25, 0.125, -1) {
 		x, y := floatX(way), floatY(way)
@@ -365,6 +389,7 @@ func TestInLine(t *testing.T) {
 // Several points of the least x, and of the greatest x, and between them
 // such as lie within, without, or on the borders.
 func TestSeveralOfOneX(t *testing.T) {
+	t.Parallel()
 	by := dice(7)
 	for n := range 400 {
 		var l []api.Point
@@ -383,6 +408,7 @@ func TestSeveralOfOneX(t *testing.T) {
 
 // Each point many times, with 0 below 0 and without: each once, by Norm.
 func TestManyTimes(t *testing.T) {
+	t.Parallel()
 	by := dice(8)
 	few := []float64{0, noughtBelow, 1, -1, least, -least, 1e200}
 	blind := 0
@@ -398,7 +424,7 @@ func TestManyTimes(t *testing.T) {
 		checkAnyOrder(t, l, want, by)
 	}
 	if blind < 200 {
-		t.Errorf("P11.1: %d hulls with a 0", blind)
+		t.Errorf("%d hulls with a 0", blind)
 	}
 	for _, h := range [][]api.Point{points(0, 0), points(0, 0, 1, 0), points(0, -1, 0, 1), points(-1, 0, 0, -1, 1, 0, 0, 1), points(0, 0, 1, 0, 1, 1, 0, 1), bowl(9)} {
 		many := slices.Repeat(h, 70)
@@ -413,6 +439,7 @@ func TestManyTimes(t *testing.T) {
 // Points in a border, at a corner, and one float beside it, within and without,
 // of each size; floats aren't sure.
 func TestBesideBorder(t *testing.T) {
+	t.Parallel()
 	by := dice(9)
 	blind := 0
 	for _, c := range []struct {
@@ -431,31 +458,36 @@ func TestBesideBorder(t *testing.T) {
 				}
 			}
 			with := slices.Insert(slices.Clone(h), 1, without)
-			// The same, seen from above, and with x and y in each other's place.
-			for _, way := range []func(p api.Point) api.Point{
-				func(p api.Point) api.Point { return p },
-				func(p api.Point) api.Point { return normOf(at(-floatX(p), -floatY(p))) },
-				func(p api.Point) api.Point { return api.Point{X: p.Y, Y: p.X} },
-				func(p api.Point) api.Point { return normOf(at(-floatY(p), floatX(p))) },
-			} {
+			for _, view := range views() {
 				// Whichever way it lies then, the corners stay the same.
-				checkBeside(t, seenFrom(h, way), []api.Point{way(mid), way(within)}, by)
-				checkBeside(t, seenFrom(with, way), []api.Point{way(mid), way(within)}, by)
-				checkBeside(t, seenFrom([]api.Point{h[0], h[1], within}, way), []api.Point{way(mid)}, by)
-				checkBeside(t, seenFrom([]api.Point{h[0], h[1], without}, way), []api.Point{way(mid)}, by)
-				checkBeside(t, seenFrom(h[:2], way), []api.Point{way(mid)}, by)
+				checkBeside(t, seenFrom(h, view), []api.Point{view(mid), view(within)}, by)
+				checkBeside(t, seenFrom(with, view), []api.Point{view(mid), view(within)}, by)
+				checkBeside(t, seenFrom([]api.Point{h[0], h[1], within}, view), []api.Point{view(mid)}, by)
+				checkBeside(t, seenFrom([]api.Point{h[0], h[1], without}, view), []api.Point{view(mid)}, by)
+				checkBeside(t, seenFrom(h[:2], view), []api.Point{view(mid)}, by)
 			}
 		}
 	}
 	if blind < 400 {
-		t.Errorf("P11.1: floats are sure but of %d", blind)
+		t.Errorf("floats are sure but of %d", blind)
 	}
 }
 
-// seenFrom: all points, each seen that way.
-func seenFrom(l []api.Point, way func(p api.Point) api.Point) (list []api.Point) {
+// views: a plane as it is, from above, with x and y in each other's place, and
+// turned by a quarter.
+func views() []func(p api.Point) api.Point {
+	return []func(p api.Point) api.Point{
+		func(p api.Point) api.Point { return p },
+		func(p api.Point) api.Point { return normOf(at(-floatX(p), -floatY(p))) },
+		func(p api.Point) api.Point { return api.Point{X: p.Y, Y: p.X} },
+		func(p api.Point) api.Point { return normOf(at(-floatY(p), floatX(p))) },
+	}
+}
+
+// seenFrom: all points in a view.
+func seenFrom(l []api.Point, view func(p api.Point) api.Point) (list []api.Point) {
 	for _, p := range l {
-		list = append(list, way(p))
+		list = append(list, view(p))
 	}
 	return list
 }
@@ -477,6 +509,7 @@ func checkBeside(t *testing.T, corners, others []api.Point, by *rand.Rand) {
 // Points beside each corner of rounds, one float to each side, and between each
 // two corners, rounded to where floats are: by the words.
 func TestBesideCorners(t *testing.T) {
+	t.Parallel()
 	by := dice(10)
 	blind, all := 0, 0
 	for _, h := range [][]api.Point{points(0, 0, 1, 0, 0, 1), points(0, 0, 3, 1, 1, 3), wheel(5), wheel(8), bowl(6), times(wheel(7), 0x1p-540), times(bowl(5), least), times(wheel(6), 0x1p1000)} {
@@ -497,12 +530,13 @@ func TestBesideCorners(t *testing.T) {
 		}
 	}
 	if blind < all/2 {
-		t.Errorf("P11.1: floats are sure of all of %d but %d", all, blind)
+		t.Errorf("floats are sure of all of %d but %d", all, blind)
 	}
 }
 
 // Lists of thousands: by what follows, and where the hull is known, by that.
 func TestThousands(t *testing.T) {
+	t.Parallel()
 	by := dice(11)
 	for kind := range 10 {
 		checkFollows(t, chance(3000+500*kind, kind, by))
@@ -549,22 +583,25 @@ func bads() (list []api.Point) {
 	return list
 }
 
-// wantFault: does Hull tell that the point at that place is the first that
+// wantFault: does each way tell that the point at that place is the first that
 // isn't good, as the document says faults are, and nothing beside it?
 func wantFault(t *testing.T, l []api.Point, place int) {
 	t.Helper()
-	h, e := chain.Hull(l)
-	var f *api.Fault
-	var c api.Code
-	if len(h) != 0 || !errors.As(e, &f) || f.At != place || f.Err == nil || f.Err != api.BadPoint ||
-		!errors.As(e, &c) || c != api.BadPoint || !errors.Is(e, api.BadPoint) || e.Error() != fmt.Sprintf("%d: E1", place) {
-		t.Errorf("P11.1: Hull of %s: %s %v, not a fault at %d", seen(l...), seen(h...), e, place)
+	for _, w := range ways() {
+		h, e := w.hull(l)
+		var f *api.Fault
+		var c api.Code
+		if len(h) != 0 || !errors.As(e, &f) || f.At != place || f.Err == nil || f.Err != api.BadPoint ||
+			!errors.As(e, &c) || c != api.BadPoint || !errors.Is(e, api.BadPoint) || e.Error() != fmt.Sprintf("%d: E1", place) {
+			t.Errorf("%s.1: Hull of %s: %s %v, not a fault at %d", w.layer, seen(l...), seen(h...), e, place)
+		}
 	}
 }
 
 // One that isn't good, at the first place, the last one, and others, and such
 // behind it: the first is told.
 func TestBadPoints(t *testing.T) {
+	t.Parallel()
 	for k, bad := range bads() {
 		for _, n := range []int{1, 2, 3, 4, 9, 40, 300} {
 			for place := 0; place < n; place += max(1, min(n/5, n-1-place)) {
@@ -596,13 +633,16 @@ func TestBadPoints(t *testing.T) {
 
 // A fault is the caller's to change.
 func TestFaultsApart(t *testing.T) {
+	t.Parallel()
 	l := append(bowl(3), bads()[0])
 	for range 3 {
 		wantFault(t, l, 3)
-		_, e := chain.Hull(l)
-		var f *api.Fault
-		if errors.As(e, &f) {
-			f.At, f.Err = 77, api.Range
+		for _, w := range ways() {
+			_, e := w.hull(l)
+			var f *api.Fault
+			if errors.As(e, &f) {
+				f.At, f.Err = 77, api.Range
+			}
 		}
 	}
 }
@@ -610,6 +650,7 @@ func TestFaultsApart(t *testing.T) {
 // What is handed in stays as it was, its order and its spare room too, be it
 // right or wrong.
 func TestHandedIn(t *testing.T) {
+	t.Parallel()
 	by := dice(12)
 	room := append(shuffled(wheel(20), by), points(5, 5, noughtBelow, 0, 0, noughtBelow, -1e9, 0, 5, 5, 6, 6, 7, 7, noughtBelow, noughtBelow)...)
 	room = append(room, api.Point{X: infinite, Y: signBit}, at(-2e9, 0))
@@ -618,9 +659,11 @@ func TestHandedIn(t *testing.T) {
 	before := slices.Clone(room)
 	for from := range len(room) {
 		for to := from; to <= len(room); to++ {
-			chain.Hull(room[from:to])
-			if !slices.Equal(room, before) {
-				t.Fatalf("P11.1: those from %d to %d: handed in was %s, is now %s", from, to, seen(before...), seen(room...))
+			for _, w := range ways() {
+				w.hull(room[from:to])
+				if !slices.Equal(room, before) {
+					t.Fatalf("%s.1: those from %d to %d: handed in was %s, is now %s", w.layer, from, to, seen(before...), seen(room...))
+				}
 			}
 		}
 	}
@@ -629,24 +672,34 @@ func TestHandedIn(t *testing.T) {
 // What is answered has memory of its own: to change it, its spare room too,
 // changes neither what was handed in nor other answers.
 func TestOwnMemory(t *testing.T) {
+	t.Parallel()
 	for n := range 40 {
 		for _, l := range [][]api.Point{bowl(n), back(bowl(n)), slices.Repeat(points(1, 1), n), slices.Repeat(points(0, 0, 2, 2, 1, 1), n)[:n], append(slices.Repeat(points(0, 0), n), wheel(30)...)} {
 			room := append(l, bads()...)
-			l, before := room[:len(l)], slices.Clone(room)
-			one, e := chain.Hull(l)
-			two, f := chain.Hull(l)
-			want := slices.Clone(two)
-			if e != nil || f != nil || !slices.Equal(one, two) {
-				t.Errorf("P11.1: Hull of %s: %v %v, or not the same twice", seen(l...), e, f)
+			for _, w := range ways() {
+				checkApart(t, w, room, len(l))
 			}
-			one = one[:cap(one)]
-			for k := range one {
-				one[k] = bads()[0]
-			}
-			if !slices.Equal(room, before) || !slices.Equal(two, want) {
-				t.Errorf("P11.1: Hull of %s shares memory", seen(before...))
-			}
-			wantHull(t, l, want)
+			wantHull(t, room[:len(l)], hullBySides(l))
 		}
+	}
+}
+
+// checkApart: do two answers of the first n points, and the room that these
+// are handed in with, share no memory?
+func checkApart(t *testing.T, w way, room []api.Point, n int) {
+	t.Helper()
+	before := slices.Clone(room)
+	one, e := w.hull(room[:n])
+	two, f := w.hull(room[:n])
+	want := slices.Clone(two)
+	if e != nil || f != nil || !slices.Equal(one, two) {
+		t.Errorf("%s.1: Hull of %s: %v %v, or not the same twice", w.layer, seen(room[:n]...), e, f)
+	}
+	one = one[:cap(one)]
+	for k := range one {
+		one[k] = bads()[0]
+	}
+	if !slices.Equal(room, before) || !slices.Equal(two, want) {
+		t.Errorf("%s.1: Hull of %s shares memory", w.layer, seen(before...))
 	}
 }

@@ -1,4 +1,4 @@
-package chain_test
+package hulls_test
 
 import (
 	"cmp"
