@@ -12,6 +12,7 @@ import (
 	"outrigger/chain"
 	"outrigger/filter"
 	"outrigger/graham"
+	"outrigger/quick"
 	"outrigger/shape"
 )
 
@@ -23,7 +24,7 @@ type way struct {
 
 // ways: all of them, that by two chains first.
 func ways() []way {
-	return []way{{"P11", chain.Hull}, {"P12", graham.Hull}}
+	return []way{{"P11", chain.Hull}, {"P12", graham.Hull}, {"P13", quick.Hull}}
 }
 
 // wantHull holds what each way answers against what is wanted, bit by bit.
