@@ -12,19 +12,21 @@ import (
 	"outrigger/chain"
 	"outrigger/filter"
 	"outrigger/graham"
+	"outrigger/groups"
 	"outrigger/quick"
 	"outrigger/shape"
 )
 
-// way: one of the ways to find a hull, and the layer whose promises it keeps.
+// way: one of the ways to find a hull, and the promises that it keeps: of what
+// is told, of what follows, and of what all ways have in common.
 type way struct {
-	layer string
-	hull  func(l []api.Point) ([]api.Point, error)
+	told, follows, same string
+	hull                func(l []api.Point) ([]api.Point, error)
 }
 
 // ways: all of them, that by two chains first.
 func ways() []way {
-	return []way{{"P11", chain.Hull}, {"P12", graham.Hull}, {"P13", quick.Hull}}
+	return []way{{"P11.1", "P11.2", "P11.2", chain.Hull}, {"P12.1", "P12.2", "P12.3", graham.Hull}, {"P13.1", "P13.2", "P13.3", quick.Hull}, {"P15.3", "P15.4", "P15.4", groups.Hull}}
 }
 
 // wantHull holds what each way answers against what is wanted, bit by bit.
@@ -32,7 +34,7 @@ func wantHull(t *testing.T, l, want []api.Point) {
 	t.Helper()
 	for _, w := range ways() {
 		if h, e := w.hull(l); e != nil || !slices.Equal(h, want) {
-			t.Errorf("%s.1: Hull of %s: %s %v, not %s", w.layer, seen(l...), seen(h...), e, seen(want...))
+			t.Errorf("%s: Hull of %s: %s %v, not %s", w.told, seen(l...), seen(h...), e, seen(want...))
 		}
 	}
 }
@@ -46,20 +48,20 @@ func checkFollows(t *testing.T, l []api.Point) {
 	for _, w := range ways() {
 		h, e := w.hull(l)
 		if e != nil || !shape.Right(h) {
-			t.Errorf("%s.2: Hull of %s: %s %v: not right", w.layer, seen(l...), seen(h...), e)
+			t.Errorf("%s: Hull of %s: %s %v: not right", w.follows, seen(l...), seen(h...), e)
 		}
 		for _, p := range h {
 			if _, found := slices.BinarySearchFunc(once, p, lexOf); !found || p != normOf(p) {
-				t.Errorf("%s.2: Hull of %s has %s", w.layer, seen(l...), seen(p))
+				t.Errorf("%s: Hull of %s has %s", w.follows, seen(l...), seen(p))
 			}
 		}
 		for _, p := range once {
 			if holds, e := shape.Holds(h, p); e != nil || !holds {
-				t.Errorf("%s.2: Hull of %s, %s, doesn't hold %s: %v", w.layer, seen(l...), seen(h...), seen(p), e)
+				t.Errorf("%s: Hull of %s, %s, doesn't hold %s: %v", w.follows, seen(l...), seen(h...), seen(p), e)
 			}
 		}
 		if !slices.Equal(h, first) {
-			t.Errorf("%s.3: Hull of %s: %s, by two chains %s", w.layer, seen(l...), seen(h...), seen(first...))
+			t.Errorf("%s: Hull of %s: %s, by two chains %s", w.same, seen(l...), seen(h...), seen(first...))
 		}
 	}
 }
@@ -594,7 +596,7 @@ func wantFault(t *testing.T, l []api.Point, place int) {
 		var c api.Code
 		if len(h) != 0 || !errors.As(e, &f) || f.At != place || f.Err == nil || f.Err != api.BadPoint ||
 			!errors.As(e, &c) || c != api.BadPoint || !errors.Is(e, api.BadPoint) || e.Error() != fmt.Sprintf("%d: E1", place) {
-			t.Errorf("%s.1: Hull of %s: %s %v, not a fault at %d", w.layer, seen(l...), seen(h...), e, place)
+			t.Errorf("%s: Hull of %s: %s %v, not a fault at %d", w.told, seen(l...), seen(h...), e, place)
 		}
 	}
 }
@@ -663,7 +665,7 @@ func TestHandedIn(t *testing.T) {
 			for _, w := range ways() {
 				w.hull(room[from:to])
 				if !slices.Equal(room, before) {
-					t.Fatalf("%s.1: those from %d to %d: handed in was %s, is now %s", w.layer, from, to, seen(before...), seen(room...))
+					t.Fatalf("%s: those from %d to %d: handed in was %s, is now %s", w.told, from, to, seen(before...), seen(room...))
 				}
 			}
 		}
@@ -694,13 +696,13 @@ func checkApart(t *testing.T, w way, room []api.Point, n int) {
 	two, f := w.hull(room[:n])
 	want := slices.Clone(two)
 	if e != nil || f != nil || !slices.Equal(one, two) {
-		t.Errorf("%s.1: Hull of %s: %v %v, or not the same twice", w.layer, seen(room[:n]...), e, f)
+		t.Errorf("%s: Hull of %s: %v %v, or not the same twice", w.told, seen(room[:n]...), e, f)
 	}
 	one = one[:cap(one)]
 	for k := range one {
 		one[k] = bads()[0]
 	}
 	if !slices.Equal(room, before) || !slices.Equal(two, want) {
-		t.Errorf("%s.1: Hull of %s shares memory", w.layer, seen(before...))
+		t.Errorf("%s: Hull of %s shares memory", w.told, seen(before...))
 	}
 }
