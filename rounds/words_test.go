@@ -1,4 +1,4 @@
-package reach_test
+package rounds_test
 
 import (
 	"cmp"
@@ -178,6 +178,23 @@ func held(h []api.Point, q api.Point) bool {
 		return in == 2 && lexOf(h[0], q)*lexOf(h[1], q) <= 0
 	}
 	return without == 0
+}
+
+// whereOf: where the point lies of a right round, by layer 16's words.
+func whereOf(h []api.Point, q api.Point) int {
+	if len(h) < 3 {
+		if held(h, q) {
+			return api.Boundary
+		}
+		return api.Outside
+	}
+	switch without, in := sightOf(h, q).lines(); {
+	case without > 0:
+		return api.Outside
+	case in > 0:
+		return api.Boundary
+	}
+	return api.Inside
 }
 
 // isRight: is a round of good points right, by layer 10's words: the first one
