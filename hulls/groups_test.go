@@ -284,13 +284,7 @@ func TestWrap(t *testing.T) {
 
 // gridHulls: of each set of points of a grid of three by three the hull.
 func gridHulls() (hulls [][]api.Point) {
-	for mask := range 1 << 9 {
-		var l []api.Point
-		for i := range 9 {
-			if mask>>i&1 == 1 {
-				l = append(l, at(float64(i/3-1), float64(i%3-1)))
-			}
-		}
+	for _, l := range gridSets() {
 		hulls = append(hulls, hullOf(l))
 	}
 	return hulls

@@ -255,11 +255,9 @@ func TestHull(t *testing.T) {
 	}
 }
 
-// Each set of points of a grid of three by three, in many orders: all ways that
-// few points can lie to one another.
-func TestGrid(t *testing.T) {
-	t.Parallel()
-	by := dice(3)
+// gridSets: each set of points of a grid of three by three: all ways that few
+// points can lie to one another. The first one has none.
+func gridSets() (sets [][]api.Point) {
 	for mask := range 1 << 9 {
 		var l []api.Point
 		for i := range 9 {
@@ -267,6 +265,16 @@ func TestGrid(t *testing.T) {
 				l = append(l, at(float64(i/3-1), float64(i%3-1)))
 			}
 		}
+		sets = append(sets, l)
+	}
+	return sets
+}
+
+// Each set of points of a grid, in many orders.
+func TestGrid(t *testing.T) {
+	t.Parallel()
+	by := dice(3)
+	for _, l := range gridSets() {
 		checkAnyOrder(t, l, hullOf(l), by)
 	}
 	for n := range 1500 {

@@ -133,18 +133,12 @@ func TestWhereOfNone(t *testing.T) {
 func TestWhereGrid(t *testing.T) {
 	t.Parallel()
 	by := dice(41)
-	for mask := 1; mask < 1<<9; mask++ {
-		var l []api.Point
-		for i := range 9 {
-			if mask>>i&1 == 1 {
-				l = append(l, at(float64(i/3), float64(i%3)))
-			}
-		}
+	for _, l := range gridSets()[1:] {
 		l = shuffled(l, by)
 		checkOwn(t, l)
 		for range 12 {
-			checkWhere(t, l, at(float64(by.IntN(9))/2-1, float64(by.IntN(9))/2-1))
-			checkWhere(t, l, at(float64(by.IntN(13))/4-0.5, float64(by.IntN(13))/4-0.5))
+			checkWhere(t, l, at(float64(by.IntN(9))/2-2, float64(by.IntN(9))/2-2))
+			checkWhere(t, l, at(float64(by.IntN(13))/4-1.5, float64(by.IntN(13))/4-1.5))
 		}
 	}
 }
