@@ -162,7 +162,9 @@ func wheel(n int) (h []api.Point) {
 
 // turnOf: the turn of three points, none of which lie in one line.
 func turnOf(a, b, c api.Point) int {
-	return plane{x: numbers([]uint64{a.X, b.X, c.X}), y: numbers([]uint64{a.Y, b.Y, c.Y})}.turn(0, 1, 2)
+	x, _ := numbers([]uint64{a.X, b.X, c.X})
+	y, _ := numbers([]uint64{a.Y, b.Y, c.Y})
+	return plane{x: x, y: y}.turn(0, 1, 2)
 }
 
 // chance: n points, of a kind: in a small grid, in a row of lines, of one

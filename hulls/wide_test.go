@@ -2,6 +2,7 @@ package hulls_test
 
 import (
 	"math/big"
+	"math/rand/v2"
 	"slices"
 	"testing"
 
@@ -85,11 +86,9 @@ func checkWide(t *testing.T, l []api.Point) (farthest [][2]api.Point) {
 	return farthest
 }
 
-// A few points, of all kinds, alike, in one line and nearly so; some dozens, and
-// some hundreds.
-func TestWide(t *testing.T) {
-	t.Parallel()
-	by := dice(50)
+// allKinds: lists of a few points, of all kinds, alike, in one line and nearly so;
+// of some dozens, and of some hundreds.
+func allKinds(by *rand.Rand) [][]api.Point {
 	lists := [][]api.Point{
 		points(3, 4), points(3, 4, 3, 4), points(0, 0, noughtBelow, 0), points(0, 0, 2, 0), points(2, 0, 0, 0, 2, 0), points(0, 3, 0, 1, 0, 2), points(6, 2, -3, -1, 3, 1, 0, 0), points(6, 2, -3, -1, 3, over(1), 0, 0), points(6, 2, -3, -1, 3, under(1), 0, least),
 		points(0, 0, 1, 1, 0.5, 0.5+0x1p-53), points(0, 0, 2, 0, 2, 2, 0, 2, 1, 1, 1, 0), points(1, 0, -1, 0, 0, 1, 0, -1, 0, 0), points(1, 0, -1, 0, 0, over(1), 0, -1, 0, 0), points(1, 0, -1, 0, 0, under(1), 0, -1), points(noughtBelow, 5, 3, 4, 4, 3, 5, noughtBelow, 0, 0),
@@ -108,8 +107,15 @@ func TestWide(t *testing.T) {
 	for kind := range 5 {
 		lists = append(lists, chance(200, kind, by))
 	}
+	return lists
+}
+
+// Lists of all kinds.
+func TestWide(t *testing.T) {
+	t.Parallel()
+	by := dice(50)
 	several := 0
-	for _, l := range lists {
+	for _, l := range allKinds(by) {
 		if len(checkWide(t, signed(shuffled(l, by), by))) > 1 {
 			several++
 		}

@@ -75,9 +75,10 @@ func number(b uint64) *big.Int {
 }
 
 // numbers: those that bits are, all times one power of two, the least that
-// makes all whole, so that they are no longer than need be.
-func numbers(bits []uint64) (list []*big.Int) {
-	low := uint(2098)
+// makes all whole, so that they are no longer than need be: so often 2 less than
+// times 2^1074.
+func numbers(bits []uint64) (list []*big.Int, low uint) {
+	low = 2098
 	for _, b := range bits {
 		x := number(b)
 		if x.Sign() != 0 {
@@ -88,7 +89,7 @@ func numbers(bits []uint64) (list []*big.Int) {
 	for _, x := range list {
 		x.Rsh(x, low)
 	}
-	return list
+	return list, low
 }
 
 // lexOf: which of two is lexicographically less. (Floats that are finite are
@@ -126,11 +127,13 @@ type plane struct {
 
 func planeOf(l []api.Point) plane {
 	once := onceOf(l)
-	var x, y []uint64
+	var bitsX, bitsY []uint64
 	for _, p := range once {
-		x, y = append(x, p.X), append(y, p.Y)
+		bitsX, bitsY = append(bitsX, p.X), append(bitsY, p.Y)
 	}
-	return plane{once, numbers(x), numbers(y)}
+	x, _ := numbers(bitsX)
+	y, _ := numbers(bitsY)
+	return plane{once, x, y}
 }
 
 // turn: by layer 7's words; that x and y are so often as great as they are,

@@ -3,10 +3,12 @@ package rounds_test
 import (
 	"errors"
 	"fmt"
+	"math"
 	"slices"
 	"testing"
 
 	"outrigger/api"
+	"outrigger/narrow"
 	"outrigger/wide"
 )
 
@@ -23,9 +25,27 @@ type size struct {
 
 // sizes: all of them.
 func sizes() []size {
-	return []size{
+	list := []size{
 		{"wide.Pairs", "P17.1", askPairs, fmt.Sprint([][2]int{}), nil},
 		{"wide.Diameter", "P17.2", askDiameter, fmt.Sprint(api.Ratio{}, 0, 0), api.EmptyHull},
+		{"narrow.Width", "P18.2", askRatio(narrow.Width), fmt.Sprint(api.Ratio{}), api.EmptyHull},
+	}
+	for _, k := range []int{0, 2, -1, 3, math.MinInt, math.MaxInt} {
+		strip := func(h []api.Point) (api.Ratio, error) { return narrow.Strip(h, k) }
+		list = append(list, size{fmt.Sprintf("narrow.Strip %d", k), "P18.1", askRatio(strip), fmt.Sprint(api.Ratio{}), api.Below})
+	}
+	return list
+}
+
+// askRatio: of a call that answers but a ratio.
+func askRatio(call func(h []api.Point) (api.Ratio, error)) func(h []api.Point, spoilt bool) (string, error) {
+	return func(h []api.Point, spoilt bool) (string, error) {
+		r, e := call(h)
+		told := fmt.Sprint(r)
+		if spoilt {
+			spoil(r)
+		}
+		return told, e
 	}
 }
 

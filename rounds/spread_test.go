@@ -4,6 +4,7 @@ import (
 	"cmp"
 	"math"
 	"math/big"
+	"math/rand/v2"
 	"slices"
 	"testing"
 
@@ -209,6 +210,15 @@ func ring(square int) []api.Point {
 	return rightRound(l)
 }
 
+// partOfRing: corners by chance of a ring, which is the k-th of a few, by turns,
+// of any size; at least so many.
+func partOfRing(k, least int, by *rand.Rand) []api.Point {
+	size := math.Ldexp(1, by.IntN(2000)-1000)
+	all := times(ring([]int{5, 25, 65, 325, 1105}[k%5]), size)
+	by.Shuffle(len(all), func(i, j int) { all[i], all[j] = all[j], all[i] })
+	return rightRound(all[:least+by.IntN(len(all)-least+1)])
+}
+
 // belt: a right round of 24 lines of small whole numbers, of which each has one
 // alongside it that is longer, or shorter.
 func belt() []api.Point {
@@ -236,6 +246,11 @@ func belt() []api.Point {
 		x, y = x+floatX(p), y+floatY(p)
 	}
 	return rightRound(l)
+}
+
+// alongsides: right rounds of which lines go alongside each other.
+func alongsides() [][]api.Point {
+	return [][]api.Point{round(0, 0, 2, 0, 2, 2, 0, 2), round(1, 1, 7, 1, 7, 5, 1, 5), round(-1, 0, 0, -1, 1, 0, 0, 1), round(3, 1, 9, 3, 10, 8, 4, 6), ring(5), ring(25), mirrored(bowl(4, 1)), belt(), round(0, 0, 4, 0, 3, 2, 1, 2), round(0, 1, 1, 0, 4, 0, 5, 1), round(0, 0, 5, 0, 5, 5, 3, 6, 0, 5)}
 }
 
 // alongside: how many pairs of lines go alongside each other.

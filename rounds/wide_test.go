@@ -159,7 +159,7 @@ func TestPairsNearlyAlongside(t *testing.T) {
 	t.Parallel()
 	fewer, as := 0, 0
 	for _, size := range []float64{1, 0x1p-1074, 0x1p-1020, 0x1p900, 0x1p50} {
-		for _, h := range [][]api.Point{round(0, 0, 2, 0, 2, 2, 0, 2), round(1, 1, 7, 1, 7, 5, 1, 5), round(-1, 0, 0, -1, 1, 0, 0, 1), round(3, 1, 9, 3, 10, 8, 4, 6), ring(5), ring(25), mirrored(bowl(4, 1)), belt(), round(0, 0, 4, 0, 3, 2, 1, 2), round(0, 1, 1, 0, 4, 0, 5, 1), round(0, 0, 5, 0, 5, 5, 3, 6, 0, 5)} {
+		for _, h := range alongsides() {
 			h = times(h, size)
 			many := len(checkPairs(t, h))
 			nudged(h, func(h []api.Point) {
@@ -368,10 +368,7 @@ func TestDiameterOfRings(t *testing.T) {
 	by := dice(17)
 	several, late, near := 0, 0, 0
 	for k := range 300 {
-		size := math.Ldexp(1, by.IntN(2000)-1000)
-		all := times(ring([]int{5, 25, 65, 325, 1105}[k%5]), size)
-		by.Shuffle(len(all), func(i, j int) { all[i], all[j] = all[j], all[i] })
-		h := rightRound(all[:2+by.IntN(len(all)-1)])
+		h := partOfRing(k, 2, by)
 		places := checkDiameter(t, h)
 		if len(places) > 1 {
 			several++
