@@ -633,19 +633,12 @@ func isBad(p api.Point) bool {
 func TestGroupsHandedIn(t *testing.T) {
 	t.Parallel()
 	by := dice(41)
-	room := append(shuffled(wheel(12), by), points(5, 5, noughtBelow, 0, 0, noughtBelow, -1e9, 0, 5, 5, noughtBelow, noughtBelow)...)
-	room = append(room, api.Point{X: infinite, Y: signBit}, at(-2e9, 0))
-	before := slices.Clone(room)
-	for from := range len(room) {
-		for to := from; to <= len(room); to++ {
-			for _, m := range []int{-1, 1, 2, 5, 100} {
-				groups.Groups(room[from:to], m)
-			}
-			if !slices.Equal(room, before) {
-				t.Fatalf("P15.1: those from %d to %d: handed in was %s, is now %s", from, to, seen(before...), seen(room...))
-			}
+	room := mixed(12, by)
+	checkUnchanged(t, "P15.1", room, func(l []api.Point) {
+		for _, m := range []int{-1, 1, 2, 5, 100} {
+			groups.Groups(l, m)
 		}
-	}
+	})
 	for n := range 60 {
 		rounds := parted(chance(40, n, by), 5, by)
 		for i, h := range rounds {

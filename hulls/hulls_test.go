@@ -665,18 +665,29 @@ func TestFaultsApart(t *testing.T) {
 func TestHandedIn(t *testing.T) {
 	t.Parallel()
 	by := dice(12)
-	room := append(shuffled(wheel(20), by), points(5, 5, noughtBelow, 0, 0, noughtBelow, -1e9, 0, 5, 5, 6, 6, 7, 7, noughtBelow, noughtBelow)...)
-	room = append(room, api.Point{X: infinite, Y: signBit}, at(-2e9, 0))
-	room = append(room, bowl(9)...)
-	room = append(room, back(bowl(9))...)
+	room := slices.Concat(mixed(20, by), bowl(9), back(bowl(9)))
+	for _, w := range ways() {
+		checkUnchanged(t, w.told, room, func(l []api.Point) { w.hull(l) })
+	}
+}
+
+// mixed: n points of a wheel, and others, some of which are alike, or have 0
+// below 0; one isn't good.
+func mixed(n int, by *rand.Rand) []api.Point {
+	others := points(5, 5, noughtBelow, 0, 0, noughtBelow, -1e9, 0, 5, 5, 6, 6, 7, 7, noughtBelow, noughtBelow)
+	return slices.Concat(shuffled(wheel(n), by), others, []api.Point{{X: infinite, Y: signBit}, at(-2e9, 0)})
+}
+
+// checkUnchanged: does what is asked of each run of the room's points leave all
+// of the room as it was?
+func checkUnchanged(t *testing.T, promise string, room []api.Point, ask func(l []api.Point)) {
+	t.Helper()
 	before := slices.Clone(room)
 	for from := range len(room) {
 		for to := from; to <= len(room); to++ {
-			for _, w := range ways() {
-				w.hull(room[from:to])
-				if !slices.Equal(room, before) {
-					t.Fatalf("%s: those from %d to %d: handed in was %s, is now %s", w.told, from, to, seen(before...), seen(room...))
-				}
+			ask(room[from:to])
+			if !slices.Equal(room, before) {
+				t.Fatalf("%s: those from %d to %d: handed in was %s, is now %s", promise, from, to, seen(before...), seen(room...))
 			}
 		}
 	}
